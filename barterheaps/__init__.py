@@ -1,0 +1,1 @@
+"""Barterheaps: exchanges that join all heaps."""
