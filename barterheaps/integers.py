@@ -5,7 +5,7 @@ is the constant and the sum of factor times number. A limit is a form whose valu
 must be 0 or more.
 """
 
-from math import gcd
+from math import gcd, lcm
 
 
 def is_integer(value):
@@ -52,6 +52,41 @@ def plain_rows(rows):
             found.append(rest)
     # Each begins above 0 where all others have 0, so the greater one begins first.
     return tuple(sorted(found, reverse=True))
+
+
+def dot(one, other):
+    """The sum of the products of the numbers in the same places."""
+    return sum([number * factor for number, factor in zip(one, other)])
+
+
+def square_rows(rows):
+    """Rows with the same sums of rational multiples, at right angles to one another."""
+    found = []
+    for row in plain_rows(rows):
+        rest = row
+        for other in found:
+            size = dot(other, other)
+            share = dot(rest, other)
+            rest = tuple([size * number - share * less for number, less in zip(rest, other)])
+        found.append(in_lowest_terms(rest))
+    return found
+
+
+def rows_across(rows, size):
+    """The plain rows of all rows of so many numbers whose dot with each of the rows is 0."""
+    equations = plain_rows(rows)
+    firsts = [first_place(equation) for equation in equations]
+    scaling = 1
+    for equation, first in zip(equations, firsts):
+        scaling = lcm(scaling, equation[first])
+    found = []
+    for place in range(size):
+        if place not in firsts:
+            row = [scaling * int(other == place) for other in range(size)]
+            for equation, first in zip(equations, firsts):
+                row[first] = -equation[place] * scaling // equation[first]
+            found.append(tuple(row))
+    return plain_rows(found)
 
 
 def value_of(form, numbers):

@@ -1,8 +1,10 @@
 import unittest
-from itertools import product
-from math import gcd
+from itertools import combinations, product
+from math import comb, gcd
 
-from barterheaps.integers import first_place, is_integer, plain_rows, span, value_of, without_last
+from barterheaps.integers import (
+    dot, first_place, is_integer, plain_rows, rows_across, span, square_rows, value_of, without_last,
+)
 from values import slow_rank
 
 
@@ -42,6 +44,31 @@ class IntegersTest(unittest.TestCase):
                 self.assertGreater(row[place], 0)
                 self.assertEqual(gcd(*row), 1)
                 self.assertEqual([other[place] for other in found if other != row], [0] * (len(found) - 1))
+
+    def test_dot(self):
+        self.assertEqual(dot((1, 2, -3), (4, 0, 5)), -11)
+        self.assertEqual(dot((), ()), 0)
+
+    def test_square_rows(self):
+        for rows in product(product((-1, 0, 2), repeat=3), repeat=2):
+            found = square_rows(rows + ((1, 1, 0),))
+            self.assertEqual(plain_rows(found), plain_rows(rows + ((1, 1, 0),)))
+            self.assertEqual(len(found), slow_rank(rows + ((1, 1, 0),)))
+            self.assertEqual([dot(one, other) for one, other in combinations(found, 2)], [0] * comb(len(found), 2))
+
+    def test_rows_across_told(self):
+        self.assertEqual(rows_across((), 2), ((1, 0), (0, 1)))
+        self.assertEqual(rows_across(((0, 0),), 2), ((1, 0), (0, 1)))
+        self.assertEqual(rows_across(((2, 3),), 2), ((3, -2),))
+        self.assertEqual(rows_across(((1, 1, 1),), 3), ((1, 0, -1), (0, 1, -1)))
+        self.assertEqual(rows_across(((1, 0), (0, 1)), 2), ())
+
+    def test_rows_across_small_rows(self):
+        for rows in product(product((-2, 0, 1, 3), repeat=3), repeat=2):
+            found = rows_across(rows, 3)
+            self.assertEqual(found, plain_rows(found))
+            self.assertEqual(len(found), 3 - slow_rank(rows))
+            self.assertEqual({dot(one, other) for one in found for other in rows} | {0}, {0})
 
     def test_span(self):
         # From 5/3 to 9/2.

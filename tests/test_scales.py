@@ -5,30 +5,9 @@ from itertools import product
 from barterheaps import scales
 from barterheaps.errors import BarterError, TooMany
 from barterheaps.scales import free, is_heap, lot, scale_error, sums_of
-from values import OTHERS, is_plain, slow_lot, slow_lots, slow_rank, slow_sums
-
-TABLE = ((1, 1, 0, 0), (0, 0, 1, 1), (1, 0, 1, 0), (0, 1, 0, 1))
-WIDE_TABLE = ((1, 1, 1, 0, 0, 0), (0, 0, 0, 1, 1, 1), (1, 0, 0, 1, 0, 0), (0, 1, 0, 0, 1, 0), (0, 0, 1, 0, 0, 1))
-TRIANGLE = ((1, 1, 0), (0, 1, 1), (1, 0, 1))
-TWIN_TRIANGLE = ((1, 0, 1, 1, 0, 1), (1, 1, 0, 1, 1, 0), (0, 1, 1, 0, 1, 1))
-SLACK_TRIANGLE = ((1, 0, 1, 1, 0, 0), (1, 1, 0, 0, 1, 0), (0, 1, 1, 0, 0, 1))
-# The sum of the first three rows is twice the last one.
-HALVES = ((1, 1, 0, 1, 0, 0), (0, 1, 1, 0, 1, 0), (1, 0, 1, 1, 1, 0), (1, 1, 1, 1, 1, 0), (0, 0, 0, 0, 0, 1))
-
-SCALES = (
-    ((1,),), ((6,),), ((2, 3, 4),), ((1, 1, 1, 1),), ((6, 6, 6, 6),), ((6, 5, 4, 3),), ((6, 4),),
-    ((1,), (1,)), ((1,), (0,)), ((1, 1), (1, 1)), ((1, 0), (0, 1)), ((1, 1, 1, 1), (1, 1, 1, 1)),
-    ((1, 1, 1, 1, 0), (0, 0, 0, 0, 1)), TABLE, WIDE_TABLE, TRIANGLE, TWIN_TRIANGLE, SLACK_TRIANGLE, HALVES,
-    TRIANGLE + ((1, 1, 1),), ((0, 0), (1, 1)), ((1,) * 6, (1, 0) * 3, (1, 1, 0) * 2, (0, 1, 1) * 2),
-    tuple(tuple(int(at == kind) for kind in range(6)) for at in range(6)),
-)
-
-# In these a count can follow from twice another one, or from half of one.
-KNOTTED = (
-    ((1, 1, 1, 0, 0), (0, 0, 1, 1, 1), (0, 1, 0, 1, 0), (1, 0, 0, 1, 0)),
-    ((0, 0, 0, 1, 0), (1, 0, 1, 0, 0), (1, 0, 0, 0, 1), (0, 1, 1, 0, 1)),
-    ((0, 0, 1, 1, 1), (1, 1, 1, 0, 1), (0, 1, 1, 1, 0)),
-    ((1, 0, 1, 0, 1, 1), (0, 0, 1, 1, 1, 0), (0, 1, 0, 0, 0, 0), (1, 1, 0, 1, 0, 0), (0, 1, 1, 0, 0, 1)),
+from values import (
+    HALVES, KNOTTED, OTHERS, SCALES, SLACK_TRIANGLE, TABLE, TRIANGLE, TWIN_TRIANGLE, WIDE_TABLE,
+    is_plain, slow_lot, slow_lots, slow_rank, slow_sums,
 )
 
 
