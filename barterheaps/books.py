@@ -13,23 +13,26 @@ def book_error(scale, value):
         return -1, "book"
     for index, item in enumerate(value):
         word = exchange_error(scale, item)
-        if word is None and _stands_in(item, value[:index]):
+        if word is None and place_in(value[:index], item) is not None:
             word = "twice"
         if word is not None:
             return index, word
     return None
 
 
-def _stands_in(exchange, book):
-    """Whether the exchange or its opposite stands in the book."""
+def place_in(book, exchange):
+    """The index at which the exchange or its opposite stands in the book, None if neither does."""
     take, put = exchange
-    return (take, put) in book or (put, take) in book
+    for index, other in enumerate(book):
+        if other == (take, put) or other == (put, take):
+            return index
+    return None
 
 
 def piece(scale, book, heap):
     """The ascending tuple of all heaps that are joined with the heap; TooMany() for too great a lot."""
     lot(scale, sums_of(scale, heap))
-    return tuple(sorted(_trails(book, heap)))
+    return tuple(sorted(trails(book, heap)))
 
 
 def walk(scale, book, one, other):
@@ -38,26 +41,27 @@ def walk(scale, book, one, other):
     if sums_of(scale, other) != sums:
         raise Unlike()
     lot(scale, sums)
-    trails = _trails(book, one)
-    if other not in trails:
+    reached = trails(book, one)
+    if other not in reached:
         return None
     steps = []
     heap = other
     while heap != one:
-        heap, step = trails[heap]
+        heap, step = reached[heap]
         steps.append(step)
     steps.reverse()
     return tuple(steps)
 
 
-def _trails(book, start):
+def trails(book, start, caps=None):
     """A dict from each heap of the piece of start to the pair (heap before, step) by which it is reached.
 
     The steps are tried in ascending order from heaps that are reached in the order
-    of their walks, so each trail is the first one of the shortest.
+    of their walks, so each trail is the first one of the shortest. With caps, only
+    heaps that keep them are reached.
     """
-    steps = _steps(book)
-    trails = {start: None}
+    steps = steps_of(book)
+    found = {start: None}
     level = [start]
     while level:
         further = []
@@ -65,14 +69,14 @@ def _trails(book, start):
             for step, less, more in steps:
                 if is_part(less, heap):
                     behind = changed(heap, less, more)
-                    if behind not in trails:
-                        trails[behind] = (heap, step)
+                    if behind not in found and (caps is None or is_part(behind, caps)):
+                        found[behind] = (heap, step)
                         further.append(behind)
         level = further
-    return trails
+    return found
 
 
-def _steps(book):
+def steps_of(book):
     """All steps in ascending order, as triples (step, what it takes out, what it puts in)."""
     found = []
     for index, (take, put) in enumerate(book):
@@ -107,8 +111,8 @@ def apart(scale, book):
     """None if the book joins all heaps, otherwise two heaps of the first critical lot that it does not join."""
     for sums, _ in critical_groups(scale):
         heaps = lot(scale, sums)
-        trails = _trails(book, heaps[0])
-        parted = [heap for heap in heaps if heap not in trails]
+        reached = trails(book, heaps[0])
+        parted = [heap for heap in heaps if heap not in reached]
         if parted:
             return heaps[0], parted[0]
     return None

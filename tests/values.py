@@ -145,15 +145,8 @@ def slow_groups(heaps):
 def slow_edges(heaps, book):
     """The triples (heap, step, heap behind) of all steps in the lot, in order."""
     places = set(heaps)
-    edges = []
-    for heap in heaps:
-        for index, pair in enumerate(book):
-            for way, (less, more) in ((-1, pair[::-1]), (1, pair)):
-                left = [count - out for count, out in zip(heap, less)]
-                if min(left) >= 0:
-                    behind = tuple(count + into for count, into in zip(left, more))
-                    assert behind in places
-                    edges.append((heap, (index, way), behind))
+    edges = [edge for heap in heaps for edge in slow_edges_of(heap, book)]
+    assert all(behind in places for _, _, behind in edges)
     return edges
 
 
@@ -209,3 +202,91 @@ def random_scales(many, seed):
         if all(any(column) for column in zip(*rows)) and kinds - slow_rank(rows) <= 3 and rows not in found:
             found.append(rows)
     return found
+
+
+def bounded_lots(scale, most):
+    """A dict from sums to the ascending lists of all their heaps, for all sums of at most most in each row."""
+    heaps = [()]
+    for kind in range(len(scale[0])):
+        longer = []
+        for heap in heaps:
+            used = slow_sums(cut(scale, kind), heap)
+            free = [(most - told) // row[kind] for row, told in zip(scale, used) if row[kind]]
+            longer += [heap + (count,) for count in range(min(free) + 1)]
+        heaps = longer
+    lots = {}
+    for heap in heaps:
+        lots.setdefault(slow_sums(scale, heap), []).append(heap)
+    return lots
+
+
+def slow_cost(prices, heap):
+    """The cost, thing by thing."""
+    total = 0
+    for price, count in zip(prices, heap):
+        for _ in range(count):
+            total += price
+    return total
+
+
+def slow_cheapest(heaps, prices):
+    """The cheapest of ascending heaps of one lot: the first one of the least cost."""
+    costs = [slow_cost(prices, heap) for heap in heaps]
+    return heaps[costs.index(min(costs))]
+
+
+def slow_lowering_book(lots, prices):
+    """The lowering book as the document tells it, of the takes in these lots."""
+    best = {sums: slow_cheapest(heaps, prices) for sums, heaps in lots.items()}
+    cheap = set(best.values())
+    found = []
+    for sums, heaps in lots.items():
+        for heap in heaps:
+            if heap not in cheap and all(less in cheap for less in one_less(heap)):
+                found.append((heap, best[sums]))
+    return tuple(sorted(found))
+
+
+def one_less(heap):
+    """The heaps that are left when one thing is taken out."""
+    return [heap[:kind] + (count - 1,) + heap[kind + 1:] for kind, count in enumerate(heap) if count]
+
+
+def slow_lowered(heap, prices, book):
+    """The steps of the book that lead from the heap to a cheaper one, each with the heap behind it, ascending."""
+    found = []
+    for _, step, behind in slow_edges_of(heap, book):
+        if (slow_cost(prices, behind), behind) < (slow_cost(prices, heap), heap):
+            found.append((step, behind))
+    return found
+
+
+def slow_edges_of(heap, book):
+    """The triples (heap, step, heap behind) from this heap, in order."""
+    edges = []
+    for index, pair in enumerate(book):
+        for way, (less, more) in ((-1, pair[::-1]), (1, pair)):
+            left = [count - out for count, out in zip(heap, less)]
+            if min(left) >= 0:
+                edges.append((heap, (index, way), tuple(count + into for count, into in zip(left, more))))
+    return edges
+
+
+def some_prices(scale, many, seed):
+    """Price rows of all sizes for the scale: all 0, with ties, below 0, great ones, and shifted by its rows."""
+    chance = Random(seed)
+    kinds = len(scale[0])
+    found = [(0,) * kinds, (1,) * kinds, (-1,) * kinds, (10 ** 30 - 1,) * kinds, scale[0]]
+    for size in (1, 2, 9, 10 ** 30 - 1) * many:
+        prices = tuple(chance.randint(-size, size) for _ in range(kinds))
+        found.append(prices)
+        times = [chance.randint(-5, 5) for _ in scale]
+        shift = [sum(time * weight for time, weight in zip(times, column)) for column in zip(*scale)]
+        if size < 10:
+            found.append(tuple(price + more for price, more in zip(prices, shift)))
+    return found
+
+
+def greatest_sum(scale):
+    """The greatest sum of a least exchange."""
+    return max([max(slow_sums(scale, take)) for take, _ in slow_least_exchanges(scale)], default=0)
