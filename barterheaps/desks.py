@@ -86,7 +86,7 @@ class Desk:
         """Takes back the last deed that is not taken back yet; NothingToUndo()."""
         if not self._past:
             raise NothingToUndo()
-        _, self._book = self._past.pop()
+        self._book = self._past.pop()[1]
         return len(self._book)
 
     def _is_index(self, value):

@@ -20,6 +20,14 @@ BUILTINS = set(
     "StopIteration NotImplemented property staticmethod classmethod super type getattr hasattr setattr".split()
 )
 
+# What L25 lets be called on values of Python's own, as far as there may be need of it.
+METHODS = set(
+    "append clear count endswith extend find get index insert isdigit items join keys partition pop remove replace "
+    "reverse setdefault split startswith strip update values".split()
+)
+# L2 Products and L25 bar these beside a class with __len__, __iter__ and __eq__.
+BARRED_BESIDE_DESKS = {"product", "combinations", "permutations", "sort"}
+
 
 def names(tree, context):
     """The names that are read or assigned, as the context tells."""
@@ -93,6 +101,52 @@ class FormTest(unittest.TestCase):
                     self.assertNotIsInstance(node, barred)
                     if isinstance(node, ast.Constant):
                         self.assertNotIsInstance(node.value, (float, complex))
+
+    def test_methods_that_are_called(self):
+        own = {node.name for _, _, tree in self.each() for node in ast.walk(tree) if isinstance(node, ast.FunctionDef)}
+        for name, _, tree in self.each():
+            with self.subTest(name):
+                words = {
+                    node.func.attr for node in ast.walk(tree)
+                    if isinstance(node, ast.Call) and isinstance(node.func, ast.Attribute)
+                }
+                self.assertLessEqual(words, METHODS | {word for word in own if word[0] == "_"})
+                every = {node.name for node in ast.walk(tree) if isinstance(node, ast.alias)} | words
+                self.assertEqual(every & BARRED_BESIDE_DESKS, set())
+
+    def test_no_variable_has_the_name_of_an_import_or_a_class(self):
+        for name, _, tree in self.each():
+            with self.subTest(name):
+                outer = {alias.name for node in tree.body if isinstance(node, ast.ImportFrom) for alias in node.names}
+                outer |= {node.name for node in tree.body if isinstance(node, ast.ClassDef)}
+                inner = names(tree, ast.Store) | {node.arg for node in ast.walk(tree) if isinstance(node, ast.arg)}
+                self.assertEqual(outer & inner, set())
+
+    def test_no_two_files_import_from_each_other(self):
+        needs = {}
+        for name, _, tree in self.each():
+            modules = [node.module for node in tree.body if isinstance(node, ast.ImportFrom)]
+            needs[name[:-3]] = {word.partition(".")[2] for word in modules if word.startswith("barterheaps.")}
+        while needs:
+            ready = [name for name, others in needs.items() if not others & set(needs)]
+            self.assertTrue(ready, needs)
+            needs = {name: others for name, others in needs.items() if name not in ready}
+
+    def test_methods_with_double_underscores(self):
+        found = set()
+        for name, _, tree in self.each():
+            for node in ast.walk(tree):
+                if isinstance(node, ast.FunctionDef) and node.name.startswith("__") and name != "errors.py":
+                    found.add(node.name)
+        self.assertEqual(found, {"__init__", "__len__", "__contains__", "__eq__", "__iter__"})
+
+    def test_strings(self):
+        for name, _, tree in self.each():
+            with self.subTest(name):
+                for node in ast.walk(tree):
+                    if isinstance(node, ast.Constant) and isinstance(node.value, str):
+                        self.assertNotIn("%", node.value)
+                    self.assertNotIsInstance(node, (ast.Try, ast.With, ast.Match, ast.Lambda, ast.Yield, ast.JoinedStr))
 
     def test_module_level(self):
         plain = (ast.Expr, ast.ImportFrom, ast.FunctionDef, ast.ClassDef, ast.Assign)

@@ -290,3 +290,11 @@ def some_prices(scale, many, seed):
 def greatest_sum(scale):
     """The greatest sum of a least exchange."""
     return max([max(slow_sums(scale, take)) for take, _ in slow_least_exchanges(scale)], default=0)
+
+
+def slow_dot(one, other):
+    """The sum of the products of the numbers in the same places."""
+    total = 0
+    for place in range(len(one)):
+        total += one[place] * other[place]
+    return total
