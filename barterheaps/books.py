@@ -65,7 +65,8 @@ def trails(book, start, caps=None):
     level = [start]
     while level:
         further = []
-        for heap in level:
+        # Each further list is the next level, so the loop goes over a list of its own.
+        for heap in list(level):
             for step, less, more in steps:
                 if is_part(less, heap):
                     behind = changed(heap, less, more)

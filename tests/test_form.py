@@ -27,6 +27,9 @@ METHODS = set(
 )
 # L2 Products and L25 bar these beside a class with __len__, __iter__ and __eq__.
 BARRED_BESIDE_DESKS = {"product", "combinations", "permutations", "sort"}
+MODIFYING = set("add append clear discard extend insert pop remove reverse setdefault sort update".split())
+VIEWS = {"items", "keys", "values"}
+WRAPPERS = {"enumerate", "zip", "reversed"}
 
 
 def names(tree, context):
@@ -45,6 +48,88 @@ def bound_names(tree):
         if isinstance(node, (ast.FunctionDef, ast.Module)):
             bound |= {part.name for part in node.body if isinstance(part, (ast.FunctionDef, ast.ClassDef))}
     return bound
+
+
+def handles(node):
+    """The names and attributes, as texts, whose list or dict the expression may be, or may hold or be held by."""
+    if isinstance(node, ast.Name):
+        return {node.id}
+    if isinstance(node, ast.Attribute):
+        return {ast.unparse(node)}
+    if isinstance(node, (ast.Subscript, ast.NamedExpr, ast.Starred)):
+        return handles(node.value)
+    if isinstance(node, ast.IfExp):
+        return handles(node.body) | handles(node.orelse)
+    if isinstance(node, ast.BoolOp):
+        return set().union(*[handles(part) for part in node.values])
+    if isinstance(node, ast.Call) and isinstance(node.func, ast.Name) and node.func.id in WRAPPERS:
+        return set().union(*[handles(part) for part in node.args])
+    if isinstance(node, ast.Call) and isinstance(node.func, ast.Attribute):
+        if node.func.attr in VIEWS | {"get", "pop", "setdefault"}:
+            return handles(node.func.value)
+    return set()
+
+
+def with_shared(found, shared):
+    """The handles and all those that assignments tie to them."""
+    size = 0
+    while size < len(found):
+        size = len(found)
+        for pair in shared:
+            if found & pair:
+                found = found | pair
+    return found
+
+
+def shared_handles(function):
+    """For each assignment in the function the handles of both of its sides."""
+    found = []
+    for node in ast.walk(function):
+        if isinstance(node, ast.Assign):
+            found.extend([handles(target) | handles(node.value) for target in node.targets])
+        if isinstance(node, (ast.AnnAssign, ast.NamedExpr)) and node.value is not None:
+            found.append(handles(node.target) | handles(node.value))
+    return found
+
+
+def modified_handles(part):
+    """The handles of what is modified anywhere in the part, as pairs (handle, line)."""
+    found = []
+    for node in ast.walk(part):
+        changed = []
+        if isinstance(node, ast.Call) and isinstance(node.func, ast.Attribute) and node.func.attr in MODIFYING:
+            changed = [node.func.value]
+        elif isinstance(node, ast.Call) and isinstance(node.func, ast.Name) and node.func.id in LIBRARY["heapq"]:
+            changed = node.args[:1]
+        elif isinstance(node, ast.Subscript) and isinstance(node.ctx, (ast.Store, ast.Del)):
+            changed = [node.value]
+        elif isinstance(node, ast.AugAssign):
+            changed = [node.target]
+        found.extend([(handle, node.lineno) for what in changed for handle in handles(what)])
+    return found
+
+
+def walks(function):
+    """For each loop and comprehension in the function what it goes over, and the parts that it does meanwhile."""
+    found = []
+    for node in ast.walk(function):
+        if isinstance(node, ast.For):
+            found.append((node.iter, node.body))
+        if isinstance(node, (ast.ListComp, ast.SetComp, ast.DictComp, ast.GeneratorExp)):
+            found.extend([(part.iter, [node]) for part in node.generators])
+    return found
+
+
+def lines_that_change_a_walk(tree):
+    """The ascending list of the lines at which something is modified that is gone over there (L23)."""
+    lines = set()
+    for function in [node for node in ast.walk(tree) if isinstance(node, ast.FunctionDef)]:
+        shared = shared_handles(function)
+        for walked, parts in walks(function):
+            own = with_shared(handles(walked), shared)
+            for part in parts:
+                lines |= {line for handle, line in modified_handles(part) if handle in own}
+    return sorted(lines)
 
 
 class FormTest(unittest.TestCase):
@@ -163,6 +248,46 @@ class FormTest(unittest.TestCase):
                 for node in ast.walk(tree):
                     if isinstance(node, (ast.For, ast.comprehension)):
                         self.assertNotIsInstance(node.iter, (ast.Set, ast.SetComp))
+
+    def test_nothing_changes_what_a_loop_goes_over(self):
+        for name, _, tree in self.each():
+            with self.subTest(name):
+                self.assertEqual(lines_that_change_a_walk(tree), [])
+
+
+class WalkTest(unittest.TestCase):
+    """Whether the look at what loops go over sees what it looks for."""
+
+    def lines(self, *rows):
+        """The lines that are found in a function f(xs, box) with these rows; the first of them is line 2."""
+        return lines_that_change_a_walk(ast.parse("\n".join(["def f(xs, box):"] + ["    " + row for row in rows])))
+
+    def test_by_its_own_name(self):
+        self.assertEqual(self.lines("for x in xs:", "    xs.append(x)"), [3])
+        self.assertEqual(self.lines("for x in enumerate(xs):", "    xs[0] = x"), [3])
+        self.assertEqual(self.lines("for x in xs.items():", "    del xs[0]"), [3])
+        self.assertEqual(self.lines("for x in xs:", "    xs += [x]"), [3])
+        self.assertEqual(self.lines("return [xs.pop() for x in xs]"), [2])
+
+    def test_by_another_name(self):
+        rows = ["level = xs", "while level:", "    further = []", "    for x in level:", "        further.append(x)"]
+        self.assertEqual(self.lines(*rows, "    level = further"), [6])
+        self.assertEqual(self.lines(*rows, "    rest = further", "    level = rest"), [6])
+        self.assertEqual(self.lines(*rows, "    level = further or xs"), [6])
+        self.assertEqual(self.lines(*rows, "    level = further if xs else []"), [6])
+
+    def test_by_a_field_an_item_or_a_choice(self):
+        self.assertEqual(self.lines("for x in box.rows:", "    box.rows.append(x)"), [3])
+        self.assertEqual(self.lines("rows = box.rows", "for x in rows:", "    box.rows.append(x)"), [4])
+        self.assertEqual(self.lines("for x in xs[0]:", "    xs[0].append(x)"), [3])
+        self.assertEqual(self.lines("for x in xs if box else []:", "    xs.append(x)"), [3])
+        self.assertEqual(self.lines("for x in box or xs:", "    xs.append(x)"), [3])
+
+    def test_copies_and_other_lists(self):
+        rows = ["level = xs", "while level:", "    further = []", "    for x in list(level):"]
+        self.assertEqual(self.lines(*rows, "        further.append(x)", "    level = further"), [])
+        self.assertEqual(self.lines("for x in list(xs):", "    xs.remove(x)"), [])
+        self.assertEqual(self.lines("found = []", "for x in xs:", "    found.append(x)", "xs.append(1)"), [])
 
 
 if __name__ == "__main__":
